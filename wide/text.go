@@ -12,8 +12,15 @@ const (
 	chunkBase   = 1000000000
 )
 
+// shortDigits is how many digits are a short number, whichever they are.
+const shortDigits = 18
+
 // Read returns the integer of a text: decimal digits, perhaps behind a -. Of any other text it is some integer.
 func Read(text string) Int {
+	if len(text) <= shortDigits {
+		n, _ := strconv.Atoi(text)
+		return Int{word: n}
+	}
 	digits, negative := strings.CutPrefix(text, "-")
 	return signed(negative, readNatural(digits))
 }
@@ -44,8 +51,8 @@ func (x natural) scaleAdd(factor, summand uint64) natural {
 
 // Digits returns the decimal digits of |a|, without zeros in front; "0" for 0.
 func (a Int) Digits() string {
-	if len(a.size) == 0 {
-		return "0"
+	if a.short() {
+		return strconv.FormatUint(magnitude(a.word), 10)
 	}
 	rest := slices.Clone(a.size)
 	lowFirst := make([]byte, 0, len(rest)*10+chunkDigits) // a limb makes less than 10 digits

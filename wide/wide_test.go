@@ -1,6 +1,7 @@
 package wide
 
 import (
+	"math"
 	"math/big"
 	"math/rand"
 	"strings"
@@ -9,14 +10,14 @@ import (
 
 // reference returns the number as one of math/big, from its limbs and not from its text.
 func reference(a Int) *big.Int {
+	if len(a.size) == 0 {
+		return big.NewInt(int64(a.word))
+	}
 	n := new(big.Int)
 	for i := len(a.size) - 1; i >= 0; i-- {
 		n.Lsh(n, limbBits).Or(n, big.NewInt(int64(a.size[i])))
 	}
-	if a.negative {
-		n.Neg(n)
-	}
-	return n
+	return n.Mul(n, big.NewInt(int64(a.word)))
 }
 
 // check compares a result with the expected number, and demands the one form of it.
@@ -25,7 +26,9 @@ func check(t *testing.T, name string, got Int, want *big.Int) {
 	if reference(got).Cmp(want) != 0 {
 		t.Fatalf("%s: %v, not %v", name, reference(got), want)
 	}
-	if n := len(got.size); n == 0 && got.negative || n > 0 && got.size[n-1] == 0 {
+	short := new(big.Int).Abs(want).Cmp(big.NewInt(1<<62)) < 0
+	n := len(got.size)
+	if short != (n == 0) || !short && (got.size[n-1] == 0 || got.word != want.Sign()) {
 		t.Fatalf("%s: %v has another form than %v", name, got, want)
 	}
 }
@@ -37,7 +40,7 @@ func awkward(n int) []Int {
 		var longer []Int
 		for _, a := range list {
 			for _, limb := range []uint32{0, 1, 1<<31 - 1, 1 << 31, 1<<32 - 2, 1<<32 - 1} {
-				longer = append(longer, signed(false, append(natural{limb}, a.size...).trim()))
+				longer = append(longer, signed(false, append(natural{limb}, a.limbs()...).trim()))
 			}
 		}
 		list = longer
@@ -63,9 +66,13 @@ func checkPair(t *testing.T, a, b Int) {
 	x, y := reference(a), reference(b)
 	check(t, "sum", a.Plus(b), new(big.Int).Add(x, y))
 	check(t, "difference", a.Minus(b), new(big.Int).Sub(x, y))
+	check(t, "negative", a.Negated(), new(big.Int).Neg(x))
 	check(t, "product", a.Times(b), new(big.Int).Mul(x, y))
 	check(t, "divisor", a.Gcd(b), new(big.Int).GCD(nil, nil, new(big.Int).Abs(x), new(big.Int).Abs(y)))
 	checkDivision(t, a, b)
+	if a.Compare(b) != x.Cmp(y) || b.Compare(a) != y.Cmp(x) {
+		t.Fatalf("%v and %v are compared wrongly", x, y)
+	}
 	if reference(a).Cmp(x) != 0 || reference(b).Cmp(y) != 0 {
 		t.Fatalf("%v or %v was changed", x, y)
 	}
@@ -102,6 +109,27 @@ func TestAwkwardPairs(t *testing.T) {
 		for _, b := range list[:i+1] {
 			checkPair(t, a, b)
 		}
+	}
+}
+
+// TestShortPairs has numbers next to those where a result stops being a short one.
+func TestShortPairs(t *testing.T) {
+	var list []Int
+	for _, n := range []int{0, 3, 1 << 30, 1 << 31, 1 << 32, 1 << 61, 1 << 62, math.MaxInt - 2} {
+		for d := range 5 {
+			list = append(list, Make(n+d-2), Make(-n+d-2))
+		}
+	}
+	for _, a := range list {
+		for _, b := range list {
+			checkPair(t, a, b)
+		}
+	}
+}
+
+func TestMake(t *testing.T) {
+	for _, n := range []int{0, 1, -1, 7, 1<<62 - 1, 1 - 1<<62, 1 << 62, -1 << 62, math.MaxInt, math.MinInt} {
+		check(t, "made", Make(n), big.NewInt(int64(n)))
 	}
 }
 
@@ -146,6 +174,7 @@ func TestText(t *testing.T) {
 	list := append(some(r, 500, 60), awkward(3)...)
 	for digits := range 60 {
 		list = append(list, Read("1"+strings.Repeat("0", digits)), Read("-"+strings.Repeat("9", digits)))
+		list = append(list, Make(1<<digits-1), Make(1<<digits), Make(-1<<digits))
 	}
 	for _, a := range list {
 		want := reference(a)
