@@ -1,6 +1,6 @@
-// Package wide computes with integers of any size.
+// Package wide computes with integers and fractions of any size.
 //
-// Numbers of package integer have at most MaxDigits digits, but what is computed on the way to them may have more; this package has no such limit.
+// Numbers of packages integer and rational have at most MaxDigits digits, but what is computed on the way to them may have more; this package has no such limit.
 package wide
 
 import (
