@@ -14,7 +14,7 @@ type Matrix struct {
 
 // Make returns the matrix of rows of valid numbers over their least common denominator, and true; false if it is heavy (chapter 3). size is the greater one of its numbers of rows and columns.
 func Make(size int, rows ...[]api.Rat) (Matrix, bool) {
-	numbers := read(rows)
+	numbers := wide.ReadRows(rows)
 	den, ok := commonDenominator(size, numbers)
 	if !ok {
 		return Matrix{}, false
@@ -31,17 +31,6 @@ func Make(size int, rows ...[]api.Rat) (Matrix, bool) {
 		}
 	}
 	return Matrix{cells, den}, true
-}
-
-func read(rows [][]api.Rat) [][]wide.Rat {
-	numbers := make([][]wide.Rat, len(rows))
-	for i, row := range rows {
-		numbers[i] = make([]wide.Rat, len(row))
-		for j, a := range row {
-			numbers[i][j] = wide.ReadRat(a)
-		}
-	}
-	return numbers
 }
 
 // commonDenominator returns the least common denominator, and whether it is not heavy. It stops as soon as it is, before it grows out of all proportion.
